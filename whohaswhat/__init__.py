@@ -1,0 +1,1 @@
+"""Who has what: rights in parts, the deeds about them, and whose leave is needed."""
