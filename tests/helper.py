@@ -79,3 +79,10 @@ def last(*calls):
     found = run(*calls)
     assert all(answer[0] >= 0 for answer in found[:-1]), found
     return found[-1]
+
+
+def asked(person, *deeds, of=None, **question):
+    """Whose leave the person needs behind the deeds."""
+    answer = last(of or right(), *deeds, leave(person, **question))
+    assert answer[0] == 0, answer
+    return answer[1:]

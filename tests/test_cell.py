@@ -3,7 +3,7 @@
 import itertools
 import unittest
 
-from tests.helper import (annul, field, holders, last, leave, licence, pledge, release, right, run, seize, sole,
+from tests.helper import (annul, asked, field, holders, last, licence, pledge, release, right, run, seize, sole,
                           transfer)
 
 HALVES = right(owners=(1, 60, 2, 60))
@@ -14,12 +14,6 @@ def held(*deeds, of=None, **question):
     answer = last(of or right(), *deeds, holders(**question))
     assert answer[0] == 0, answer
     return dict(zip(answer[1::2], answer[2::2]))
-
-
-def asked(person, *deeds, of=None, **question):
-    answer = last(of or right(), *deeds, leave(person, **question))
-    assert answer[0] == 0, answer
-    return answer[1:]
 
 
 class HoldersCallTest(unittest.TestCase):

@@ -2,16 +2,9 @@
 
 import unittest
 
-from tests.helper import annul, field, last, leave, licence, pledge, right, run, sole, transfer
+from tests.helper import annul, asked, field, last, leave, licence, pledge, right, run, sole, transfer
 
 HALVES = right(owners=(1, 60, 2, 60))
-
-
-def asked(person, *deeds, of=None, **question):
-    """Whose leave the person needs behind the deeds."""
-    answer = last(of or right(), *deeds, leave(person, **question))
-    assert answer[0] == 0, answer
-    return answer[1:]
 
 
 class LeaveCallTest(unittest.TestCase):
