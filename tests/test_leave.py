@@ -84,6 +84,11 @@ class WithoutSoleTest(unittest.TestCase):
         self.assertEqual(asked(3, transfer(1, 1, 3, 1), of=HALVES), [])
         self.assertEqual(asked(1, transfer(1, 1, 3, 60), of=HALVES), [2, 3])
 
+    def test_only_licences_give_leave(self):
+        for day in (0, 9):
+            self.assertEqual(asked(2, transfer(1, 1, 2, 60), transfer(2, 2, 3, 60), day=day), [1, 3])
+            self.assertEqual(asked(2, pledge(1, 1, 2, 60), day=day), [1])
+
     def test_a_holder_bound_by_plain_licences_asks_nobody(self):
         self.assertEqual(asked(1, licence(1, 1, 5), of=HALVES), [])
 
