@@ -55,14 +55,54 @@ def leave(person, land=0, day=LAST_DAY, known=LAST_DAY, variant=(0,)):
     return [9, person, land, day, known, *row(variant)]
 
 
-def cut_answers(told):
+def free(person, land=0, day=LAST_DAY, known=LAST_DAY):
+    return [10, person, land, day, known]
+
+
+def parts(person, of=1, land=0, day=LAST_DAY, known=LAST_DAY):
+    return [11, of, person, land, day, known]
+
+
+def effect(deed, known=LAST_DAY):
+    return [12, deed, known]
+
+
+def force(land=0, day=LAST_DAY, variant=(0,)):
+    return [13, land, day, *row(variant)]
+
+
+def locks(of=1, land=0, day=LAST_DAY, known=LAST_DAY, variant=(0,)):
+    return [14, of, land, day, known, *row(variant)]
+
+
+def bound(of=1, land=0, day=LAST_DAY, known=LAST_DAY, variant=(0,)):
+    return [15, of, land, day, known, *row(variant)]
+
+
+def all_deeds():
+    return [16]
+
+
+def told(deed):
+    return [17, deed]
+
+
+def same(of=1, day=LAST_DAY, known=LAST_DAY, day2=LAST_DAY, known2=LAST_DAY):
+    return [18, of, day, known, day2, known2]
+
+
+def owners(land=0, day=LAST_DAY, known=LAST_DAY, variant=(0,)):
+    return [19, land, day, known, *row(variant)]
+
+
+def cut_answers(numbers):
     """One list a call, of what the program gave back for several."""
     found = []
     at = 0
-    while at < len(told):
-        end = at + 1 + told[at]
-        assert told[at] >= 1 and end <= len(told), told
-        found.append(told[at + 1:end])
+    while at < len(numbers):
+        end = at + 1 + numbers[at]
+        assert numbers[at] >= 1 and end <= len(numbers), numbers
+        found.append(numbers[at + 1:end])
         at = end
     return found
 

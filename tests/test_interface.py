@@ -1,21 +1,36 @@
 import unittest
 
-from tests.helper import annul, field, holders, last, leave, licence, pledge, release, right, run, seize, transfer
+from tests.helper import (all_deeds, annul, bound, effect, field, force, free, holders, last, leave, licence, locks,
+                          owners, parts, pledge, release, right, run, same, seize, told, transfer)
 from whohaswhat.rights import answers
 
-# A call of each number from 10 to 19, as the interface tells their counts.
-LATER_CALLS = (
-    [10, 1, 0, 0, 0],
-    [11, 1, 1, 0, 0, 0],
-    [12, 1, 0],
-    [13, 0, 0, 1, 0],
-    [14, 1, 0, 0, 0, 1, 0],
-    [15, 1, 0, 0, 0, 1, 0],
-    [16],
-    [17, 1],
-    [18, 1, 0, 0, 0, 0],
-    [19, 0, 0, 0, 1, 0],
+# All twenty calls, each with its answer.
+ALL_CALLS = (
+    (field(2, 2), [0]),
+    (right(owners=(1, 60, 2, 60), boxes=(3, 3)), [1]),
+    (transfer(8, 1, 2, 30, box=(1, 3), recorded=1), [1]),
+    (licence(7, 1, 3, box=(3, 3), recorded=2), [2]),
+    (pledge(6, 1, 4, 40, box=(3, 3), recorded=3), [3]),
+    (release(5, 6, recorded=9), [4]),
+    (seize(4, 6, recorded=8), [5]),
+    (annul(3, 8, known=50), [6]),
+    (holders(known=49, variant=(0, 1)), [0, 2, 90, 4, 30]),
+    (leave(3, known=49, variant=(0, 1)), [0, 2]),
+    (free(1, known=49), [2, 0, 0]),
+    (parts(4, known=49), [4, 140]),
+    (effect(6, known=49), [16, 8, 8, 0]),
+    (force(variant=(1, 1)), [0, 1]),
+    (locks(day=7, known=49, variant=(0, 0)), [0, 6, 1, 4, 30]),
+    (bound(known=49, variant=(0, 0)), [0, 7, 1, 7, 4]),
+    (all_deeds(), [0, 3, 8, 7, 6, 4, 5]),
+    (told(7), [1, 0, 2, 1, 1, 3, 0, 0, 0, 100000, 15, 0, 3, 3]),
+    (same(day=1, day2=7), [1]),
+    (owners(known=49, variant=(1, 0)), [0, 1, 2, 4]),
 )
+
+
+def flat(calls):
+    return [number for call in calls for number in call]
 
 
 class AnswersTest(unittest.TestCase):
@@ -36,9 +51,9 @@ class AnswersTest(unittest.TestCase):
         self.assertEqual(run(*calls), [[0], [1], [1], [2], [3], [4], [5], [6], [0, 1, 120], [0]])
 
     def test_answers_are_plain_whole_numbers_in_a_list(self):
-        told = answers(right() + transfer(1, 1, 2, 30) + holders() + leave(3) + holders(of=2))
-        self.assertIs(type(told), list)
-        self.assertEqual({type(number) for number in told}, {int})
+        found = answers(right() + transfer(1, 1, 2, 30) + holders() + leave(3) + holders(of=2))
+        self.assertIs(type(found), list)
+        self.assertEqual({type(number) for number in found}, {int})
 
     def test_at_first_one_feature_with_two_leaves(self):
         self.assertEqual(run(right(boxes=(3,)), holders(variant=(1,))), [[1], [0, 1, 120]])
@@ -100,8 +115,8 @@ class AnswersTest(unittest.TestCase):
 
     def test_what_is_given_back_is_ones_own(self):
         calls = right() + holders()
-        told = answers(calls)
-        told.clear()
+        found = answers(calls)
+        found.clear()
         self.assertEqual(answers(calls), [1, 1, 3, 0, 1, 120])
 
     def test_nothing_is_kept(self):
@@ -112,10 +127,54 @@ class AnswersTest(unittest.TestCase):
         self.assertEqual(answers(right(boxes=(4,))), [1, -4])
         self.assertEqual(answers(calls), first)
 
-    def test_calls_of_later_stages_are_taken_apart(self):
-        for call in LATER_CALLS:
-            found = run(right(), transfer(1, 1, 2, 30), call, holders(), leave(3))
-            self.assertEqual(found[3:], [[0, 1, 90, 2, 30], [0, 1, 2]])
+    def test_all_twenty_calls(self):
+        self.assertEqual([call[0] for call, answer in ALL_CALLS], list(range(20)))
+        self.assertEqual(run(*[call for call, answer in ALL_CALLS]), [answer for call, answer in ALL_CALLS])
+
+    def test_all_twenty_calls_behind_a_field_in_the_middle(self):
+        calls = [call for call, answer in ALL_CALLS]
+        expected = [answer for call, answer in ALL_CALLS]
+        others = [field(3), right(5, boxes=(7,)), transfer(9, 1, 2, 7, of=5, box=(7,)), holders(of=5, variant=(2,))]
+        self.assertEqual(run(*calls, *calls, *others, *calls),
+                         expected * 2 + [[0], [1], [1], [0, 1, 113, 2, 7]] + expected)
+
+    def test_a_field_in_the_middle_leaves_nothing_to_ask_for(self):
+        calls = [call for call, answer in ALL_CALLS]
+        found = run(*calls, field(2, 2), *calls[8:])[21:]
+        self.assertEqual(found, [[-5], [0], [4], [-5], [-5], [0], [-5], [-5], [0], [-5], [-5], [0]])
+
+    def test_a_field_in_the_middle_has_its_own_variants(self):
+        calls = [call for call, answer in ALL_CALLS]
+        found = run(*calls, field(3), *calls[8:], free(1), right(boxes=(6,)), free(2))[21:]
+        self.assertEqual(found[:12], [[-4], [-4], [3], [-5], [-5], [-4], [-4], [-4], [0], [-5], [-5], [-4]])
+        self.assertEqual(found[12:], [[3], [1], [1, 1]])
+
+    def test_all_twenty_calls_stay_and_nothing_is_kept(self):
+        calls = flat([call for call, answer in ALL_CALLS])
+        kept = list(calls)
+        first = answers(calls)
+        self.assertEqual(calls, kept)
+        self.assertEqual({type(number) for number in first}, {int})
+        self.assertEqual(answers(free(1) + force() + all_deeds() + owners()), [1, 2, 1, 0, 1, 0, 1, 0])
+        self.assertEqual(answers(calls), first)
+        self.assertEqual(calls, kept)
+
+    def test_what_is_told_is_ones_own(self):
+        calls = flat([call for call, answer in ALL_CALLS])
+        first = answers(calls)
+        expected = list(first)
+        first.clear()
+        self.assertEqual(answers(calls), expected)
+
+    def test_the_largest_questions_are_answered(self):
+        whole = (3,) * 6
+        before = [field(2, 2, 2, 2, 2, 2), right(boxes=whole, owners=flat([(p, 6) for p in range(1, 21)]))]
+        before += [transfer(k, k % 20 + 1, k % 7 + 1, 3, recorded=k, box=whole) for k in range(1, 41)]
+        before += [licence(k, k % 20 + 1, k % 7 + 1, recorded=k, box=whole) for k in range(41, 61)]
+        found = run(*before, *[same(day=39, day2=60), free(9), parts(1), effect(40)] * 5)[62:]
+        self.assertEqual(found, found[:4] * 5)
+        self.assertEqual(found[0], [0, 0, 0, 0, 0, 0, 0, 0])
+        self.assertEqual(found[3], [256, 256, 0, 0])
 
     def test_first_call_may_be_any(self):
         self.assertEqual(run(transfer(1, 1, 2, 1), licence(1, 1, 2), pledge(1, 1, 2, 1)), [[-5]] * 3)

@@ -4,11 +4,12 @@ import itertools
 import random
 import unittest
 
-from tests.helper import (annul, field, holders, last, leave, licence, pledge, release, right, run, seize, sole,
-                          transfer)
+from tests.helper import (all_deeds, annul, bound, effect, field, force, free, holders, last, leave, licence, locks,
+                          owners, parts, pledge, release, right, run, same, seize, sole, told, transfer)
 
 WORLDS = 60
 DAYS = range(6)
+LANDS = range(2)
 PERSONS = range(1, 7)
 MOST_CALLS = 400
 FIELDS = ((2,), (2, 2), (3, 1))
@@ -82,25 +83,42 @@ class World:
         return order
 
     def cells(self):
-        return list(itertools.product(range(2), itertools.product(*[range(many) for many in self.leaves])))
+        return list(itertools.product(LANDS, itertools.product(*[range(many) for many in self.leaves])))
+
+    def cell_questions(self, day, known):
+        asked = []
+        for land, variant in self.cells():
+            for make in (holders, locks, bound):
+                asked += [make(r[1], land, day, known, variant) for r in self.rights]
+            asked += [leave(person, land, day, known, variant) for person in (1, 2, 20)]
+            asked += [force(land, day, variant), owners(land, day, known, variant)]
+        return asked
 
     def questions(self, days=DAYS, knowns=DAYS):
-        """holders and leave for all cells."""
+        """The calls 8 to 11, 13 to 15, 18 and 19."""
         asked = []
-        for (land, variant), day, known in itertools.product(self.cells(), days, knowns):
-            asked += [holders(r[1], land, day, known, variant) for r in self.rights]
-            asked += [leave(person, land, day, known, variant) for person in (1, 2, 20)]
+        for day, known in itertools.product(days, knowns):
+            asked += self.cell_questions(day, known)
+            for land in LANDS:
+                asked += [free(person, land, day, known) for person in (1, 2, 20)]
+                asked += [parts(person, r[1], land, day, known) for r in self.rights for person in (1, 2)]
+            others = list(itertools.product(days, knowns))[::2]
+            asked += [same(r[1], day, known, *other) for r in self.rights for other in others]
         return asked
+
+    def deed_questions(self, deeds, knowns=DAYS):
+        """The call 12 for each deed that may be asked for."""
+        return [effect(deed[1], known) for deed in deeds if deed[0] in (2, 3, 4) for known in knowns]
 
     def ask(self, deeds, questions, rights=None):
         before = [field(*self.leaves), *(rights or self.rights), *deeds]
         room = MOST_CALLS - len(before)
-        told = []
+        told_all = []
         for start in range(0, len(questions), room):
             found = run(*before, *questions[start:start + room])
             assert all(answer[0] >= 0 for answer in found[:len(before)]), found[:len(before)]
-            told += found[len(before):]
-        return told
+            told_all += found[len(before):]
+        return told_all
 
 
 def about(deed):
@@ -124,7 +142,8 @@ class FirstPromiseTest(unittest.TestCase):
     def test_in_which_order_deeds_come_in_makes_no_difference(self):
         for seed in range(WORLDS):
             world = World(seed)
-            questions = world.questions(knowns=(2, 5))
+            questions = world.questions(days=(1, 3, 5), knowns=(2, 5)) + world.deed_questions(world.deeds)
+            questions += [told(deed[1]) for deed in world.deeds] + [all_deeds()]
             expected = world.ask(world.deeds, questions)
             for again in range(2):
                 self.assertEqual(world.ask(world.shuffled(world.deeds), questions), expected, seed)
@@ -135,9 +154,11 @@ class FirstPromiseTest(unittest.TestCase):
             world = World(seed)
             for known in (0, 1, 3):
                 later = {deed[1] for deed in world.deeds if deed[KNOWN] > known}
-                questions = world.questions(knowns=range(known + 1))
+                kept = without(world.deeds, later)
+                questions = world.questions(days=(2, 5), knowns=range(known + 1)[-2:])
+                questions += world.deed_questions(kept, knowns=range(known + 1))
                 found = world.ask(world.deeds, questions)
-                self.assertEqual(found, world.ask(without(world.deeds, later), questions), (seed, known))
+                self.assertEqual(found, world.ask(kept, questions), (seed, known))
 
     def test_it_changes_something_as_known_later(self):
         deeds = [right(), transfer(1, 1, 2, 30, known=5), annul(2, 1, known=8)]
@@ -151,12 +172,25 @@ class SecondPromiseTest(unittest.TestCase):
         for seed in range(WORLDS):
             world = World(seed, many=30)
             questions = [call for call in world.questions(knowns=(1, 3, 5)) if call[0] == 8]
-            told = [answer for answer in world.ask(world.deeds, questions) if answer != [-7]]
-            self.assertTrue(told)
-            for answer in told:
+            found = [answer for answer in world.ask(world.deeds, questions) if answer != [-7]]
+            self.assertTrue(found)
+            for answer in found:
                 self.assertEqual(answer[0], 0)
                 self.assertEqual(sum(answer[2::2]), 120, seed)
                 self.assertTrue(all(parts >= 1 for parts in answer[2::2]), seed)
+
+    def test_over_all_persons_parts_tells_120_for_each_cell(self):
+        for seed in range(WORLDS):
+            world = World(seed, many=30)
+            for r, land in itertools.product(world.rights, LANDS):
+                cells = [holders(r[1], land, variant=variant) for place, variant in world.cells() if place == land]
+                many = len([answer for answer in world.ask([], cells) if answer != [-7]])
+                for day, known in itertools.product((0, 3, 5), (2, 5)):
+                    questions = [parts(person, r[1], land, day, known) for person in range(1, 21)]
+                    found = world.ask(world.deeds, questions)
+                    self.assertEqual(sum(answer[1] for answer in found), 120 * many, seed)
+                    self.assertTrue(all(0 <= answer[0] <= many for answer in found), seed)
+                    self.assertTrue(all((answer[0] == 0) == (answer[1] == 0) for answer in found), seed)
 
     def test_nobody_gives_what_is_not_theirs(self):
         more = [transfer(1, 1, 3, 100), pledge(2, 2, 4, 100), pledge(3, 2, 5, 100), transfer(4, 2, 3, 100),
@@ -178,10 +212,13 @@ class ThirdPromiseTest(unittest.TestCase):
                     continue
                 known = world.dice.choice(DAYS)
                 annulment = annul(999, deed[1], known, world.dice.choice(DAYS))
+                kept = without(world.deeds, {deed[1]})
                 behind = world.questions(knowns=DAYS[known:][:2], days=(1, 5))
+                behind += world.deed_questions(kept, knowns=DAYS[known:][:2])
                 found = world.ask(world.deeds + [annulment], behind)
-                self.assertEqual(found, world.ask(without(world.deeds, {deed[1]}), behind), (seed, deed))
-                before = world.questions(knowns=DAYS[:known][-2:], days=(1, 5))
+                self.assertEqual(found, world.ask(kept, behind), (seed, deed))
+                before = world.questions(knowns=DAYS[:known][-1:], days=(1, 5))
+                before += world.deed_questions(world.deeds, knowns=DAYS[:known][-1:])
                 found = world.ask(world.deeds + [annulment], before)
                 self.assertEqual(found, world.ask(world.deeds, before), (seed, deed))
 
@@ -189,16 +226,24 @@ class ThirdPromiseTest(unittest.TestCase):
         half = right(owners=(1, 60, 2, 60))
         deeds = [transfer(1, 1, 3, 20), sole(2, 1, 5), pledge(3, 1, 4, 30), transfer(4, 1, 7, 20), release(5, 3),
                  pledge(6, 2, 4, 30), seize(7, 6), transfer(8, 1, 6, 60)]
-        questions = [holders(), leave(1), leave(9)]
-        everything = run(half, *deeds, *questions)[-3:]
+        questions = [holders(), leave(1), leave(9), free(1), parts(4), locks(), bound(), owners()]
+        everything = run(half, *deeds, *questions)[-8:]
         needed = [0, 2, 3, 4, 5]
-        self.assertEqual(everything, [[0, 2, 30, 3, 20, 4, 30, 6, 30, 7, 10], needed, needed])
+        bonds = [0, 2, 1, 2, 7, 2, 6]
+        self.assertEqual(everything, [[0, 2, 30, 3, 20, 4, 30, 6, 30, 7, 10], needed, needed, [0, 0], [2, 60], [0],
+                                      bonds, [0, 2, 3, 4, 6, 7]])
         for deed in deeds:
-            found = run(half, *deeds, annul(9, deed[1], known=7), *questions, holders(known=6), leave(9, known=6))
-            gone = run(half, *without(deeds, {deed[1]}), *questions)[-3:]
+            found = run(half, *deeds, annul(9, deed[1], known=7), *questions, holders(known=6), bound(known=6))
+            gone = run(half, *without(deeds, {deed[1]}), *questions)[-8:]
             self.assertNotEqual(gone, everything)
-            self.assertEqual(found[-5:-2], gone)
-            self.assertEqual(found[-2:], [everything[0], everything[2]])
+            self.assertEqual(found[-10:-2], gone)
+            self.assertEqual(found[-2:], [everything[0], everything[6]])
+
+    def test_same_as_known_with_the_annulment(self):
+        deeds = [right(), transfer(1, 1, 2, 30, recorded=5), annul(2, 1, known=7)]
+        self.assertEqual(last(*deeds, same(day=4, known=7, day2=5, known2=7)), [1])
+        self.assertEqual(last(*deeds, same(day=4, known=6, day2=5, known2=6)), [0, 0, 0])
+        self.assertEqual(last(*deeds, same(day=5, known=6, day2=5, known2=7)), [0, 0, 0])
 
 
 class FourthPromiseTest(unittest.TestCase):
@@ -211,7 +256,8 @@ class FourthPromiseTest(unittest.TestCase):
 
     def check(self, world, person, land, variant, day, known):
         question = leave(person, land, day, known, variant)
-        told = world.ask(world.deeds, [question])[0][1:]
+        how_free = free(person, land, day, known)
+        needed = world.ask(world.deeds, [question])[0][1:]
         box = [2 ** leaf for leaf in variant]
         licences = []
         found = set()
@@ -221,21 +267,33 @@ class FourthPromiseTest(unittest.TestCase):
                 licences.append(make(950 + len(licences), giver, person, begin=day, to=day, known=known,
                                      recorded=day, of=of[1], lands=2 ** land, box=box))
                 found.add(giver)
-        self.assertEqual(sorted(found), told)
-        self.assertNotIn(person, told)
+        self.assertEqual(sorted(found), needed)
+        self.assertNotIn(person, needed)
         self.assertEqual(world.ask(world.deeds + licences, [question]), [[0]])
+        before = world.ask(world.deeds, [how_free])[0]
+        behind = world.ask(world.deeds + licences, [how_free])[0]
+        # The licences are for this variant alone.
+        self.assertEqual(behind[0], before[0] + (1 if licences else 0))
+        self.assertNotEqual(behind[1:], list(variant))
         if licences:
             self.assertNotEqual(world.ask(world.deeds + licences[1:], [question]), [[0]])
-        return len(told)
+        return len(needed)
 
     def test_with_a_licence_from_each_of_those_told_nobody_is_asked(self):
-        told = 0
+        needed = 0
         for seed in range(WORLDS):
             world = World(seed, many=24)
             for land, variant in world.cells():
                 person = world.dice.choice((1, 2, 3, 20))
-                told += self.check(world, person, land, variant, world.dice.choice((2, 5)), world.dice.choice((2, 5)))
-        self.assertGreater(told, WORLDS)
+                needed += self.check(world, person, land, variant, world.dice.choice((2, 5)), world.dice.choice((2, 5)))
+        self.assertGreater(needed, WORLDS)
+
+    def test_free_counts_the_variant(self):
+        before = [field(2, 3), right(boxes=(3, 7), owners=(1, 60, 2, 60)), sole(1, 1, 3, box=(3, 7))]
+        self.assertEqual(run(*before, leave(9, variant=(0, 1)), free(9))[3:], [[0, 2, 3], [0, 0, 0]])
+        licences = [licence(5, 2, 9, box=(1, 2)), licence(6, 3, 9, box=(1, 2))]
+        self.assertEqual(last(*before, *licences, free(9)), [1, 0, 0])
+        self.assertEqual(last(*before, licences[0], free(9)), [0, 0, 0])
 
     def test_a_chain_and_two_rights(self):
         before = [right(owners=(1, 60, 2, 60)), right(2, owners=(2, 120)), sole(1, 1, 3), sole(2, 3, 4)]

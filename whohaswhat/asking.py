@@ -1,7 +1,7 @@
 """Whom a person must ask for leave."""
 
-from whohaswhat.cells import cell_behind, licences_on
-from whohaswhat.ledger import LICENCE, in_force, work_order, worked_deeds
+from whohaswhat.cells import cell_behind
+from whohaswhat.ledger import LICENCE, covering_deeds, rights_in_force, work_order
 
 
 def licences_of_day(deeds, day):
@@ -48,7 +48,7 @@ def may_use_own(person, cell, binding):
 
 
 def binding_licences(cell, person, licences):
-    binding = licences_on(cell, person)
+    binding = cell.bonds.get(person, {})
     return [licence for licence in licences if licence.number in binding]
 
 
@@ -62,10 +62,10 @@ def asked_of_right(person, right, deeds, day):
     return [asked for asked in found if asked is not None]
 
 
-def leave_needed(ledger, person, land, variant, day, known):
+def leave_needed(ledger, deeds, person, land, place, day):
+    """Whose leave the person needs, by the deeds that have worked on the day."""
     needed = []
-    for right in ledger.rights.values():
-        if in_force(right, land, variant, day):
-            deeds = worked_deeds(ledger, right, land, variant, day, known)
-            needed.extend(asked_of_right(person, right, deeds, day))
+    for right in rights_in_force(ledger, land, place, day):
+        covering = covering_deeds(ledger, deeds, right, land, place)
+        needed.extend(asked_of_right(person, right, covering, day))
     return sorted(set(needed))

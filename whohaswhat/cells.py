@@ -1,6 +1,10 @@
 """One cell of a right: who holds parts, what is locked, who is bound, and how deeds work on it."""
 
-from whohaswhat.ledger import LICENCE, PLEDGE, RELEASE, SEIZURE, TRANSFER
+from whohaswhat.ledger import LICENCE, PLEDGE, RELEASE, SEIZURE, TRANSFER, covering_deeds
+
+WHOLLY = "wholly"
+IN_PART = "in part"
+NOT_AT_ALL = "not at all"
 
 
 class Lock:
@@ -13,12 +17,17 @@ class Lock:
 
 
 class Cell:
-    """held: parts by person. locks: by the pledge's number. bonds: by person, a dict of licences' numbers."""
+    """held: parts by person. locks: by the pledge's number, in the order in which the pledges worked.
+
+    bonds: by person, a dict of licences' numbers. bound: the same as pairs of a licence's number and a person, in the
+    order in which they came to be bound.
+    """
 
     def __init__(self, owners):
         self.held = dict(owners)
         self.locks = {}
         self.bonds = {}
+        self.bound = []
 
 
 def free_parts(cell, person):
@@ -33,7 +42,9 @@ def licences_on(cell, person):
 
 def bind(cell, person, licence):
     binding = cell.bonds.setdefault(person, {})
-    binding[licence] = True
+    if licence not in binding:
+        binding[licence] = True
+        cell.bound.append((licence, person))
 
 
 def move_parts(cell, giver, taker, parts):
@@ -80,3 +91,18 @@ def cell_behind(right, deeds):
     for deed in deeds:
         work(cell, deed)
     return cell
+
+
+def cell_at(ledger, deeds, right, land, place):
+    """The right's cell of that land and variant, behind those of the deeds that cover it."""
+    return cell_behind(right, covering_deeds(ledger, deeds, right, land, place))
+
+
+def effect_on(cell, deed):
+    """How far a transfer, licence or pledge works on the cell that the deeds before it have left."""
+    if deed.kind == LICENCE:
+        return WHOLLY if deed.giver in cell.held else NOT_AT_ALL
+    free = free_parts(cell, deed.giver)
+    if free == 0:
+        return NOT_AT_ALL
+    return WHOLLY if free >= deed.parts else IN_PART

@@ -1,6 +1,9 @@
-"""What is kept: the field, the rights and the deeds, and which deeds count as known on a day."""
+"""What is kept: the field, the rights and the deeds, and which deeds count as known on a day.
 
-from whohaswhat.boxes import has_bit, in_box
+A variant is told by its place among all variants in their order.
+"""
+
+from whohaswhat.boxes import has_bit, variants_of
 
 TRANSFER = 0
 LICENCE = 1
@@ -9,21 +12,23 @@ RELEASE = 3
 SEIZURE = 4
 ANNULMENT = 5
 
+LANDS = (0, 1, 2, 3)
+
 
 class Right:
-    """A right; boxes is a list of boxes, owners a dict from persons to their parts."""
+    """A right; covered tells by a variant's place whether it has it, owners is a dict from persons to parts."""
 
     def __init__(self, number, first, last, lands):
         self.number = number
         self.first = first
         self.last = last
         self.lands = lands
-        self.boxes = []
+        self.covered = []
         self.owners = {}
 
 
 class Deed:
-    """A deed; what its kind does not tell stays 0 or empty."""
+    """A deed; what its kind does not tell stays 0 or empty. covered tells by a variant's place what its box holds."""
 
     def __init__(self, kind, number, known, recorded):
         self.kind = kind
@@ -40,6 +45,7 @@ class Deed:
         self.lands = 0
         self.about = 0
         self.box = []
+        self.covered = []
 
 
 class Ledger:
@@ -47,20 +53,36 @@ class Ledger:
 
     def __init__(self):
         self.field = [2]
+        self.variants = variants_of(self.field)
         self.rights = {}
         self.deeds = {}
 
 
-def is_cell(right, land, variant):
-    return has_bit(right.lands, land) and any([in_box(box, variant) for box in right.boxes])
+def lands_of(right):
+    return [land for land in LANDS if has_bit(right.lands, land)]
 
 
-def in_force(right, land, variant, day):
-    return right.first <= day <= right.last and is_cell(right, land, variant)
+def places_of(right):
+    return [place for place, covered in enumerate(right.covered) if covered]
+
+
+def is_cell(right, land, place):
+    return has_bit(right.lands, land) and right.covered[place]
+
+
+def rights_in_force(ledger, land, place, day):
+    """The rights in force for the cell on the day, by rising numbers."""
+    there = [ledger.rights[number] for number in sorted(ledger.rights)]
+    return [right for right in there if right.first <= day <= right.last and is_cell(right, land, place)]
 
 
 def work_order(deed):
     return (deed.recorded, deed.number)
+
+
+def deeds_in_order(ledger):
+    """All deeds, annulments and annulled ones too, in the order in which they work."""
+    return sorted(ledger.deeds.values(), key=work_order)
 
 
 def annulled_deeds(ledger, known):
@@ -74,8 +96,22 @@ def annulled_deeds(ledger, known):
 def counted_deeds(ledger, known):
     """The counted deeds as known, annulments left out, in the order in which they work."""
     annulled = annulled_deeds(ledger, known)
-    there = [deed for deed in ledger.deeds.values() if deed.known <= known and deed.kind != ANNULMENT]
-    return sorted([deed for deed in there if deed.number not in annulled], key=work_order)
+    there = [deed for deed in deeds_in_order(ledger) if deed.known <= known and deed.kind != ANNULMENT]
+    return [deed for deed in there if deed.number not in annulled]
+
+
+def worked_deeds(ledger, day, known):
+    """The counted deeds that have worked on the day, in their order."""
+    return [deed for deed in counted_deeds(ledger, known) if deed.recorded <= day]
+
+
+def deeds_before(deeds, last):
+    return [deed for deed in deeds if work_order(deed) < work_order(last)]
+
+
+def deeds_on_parts(deeds):
+    """The deeds on which it hangs who holds what; licences change no parts."""
+    return [deed for deed in deeds if deed.kind != LICENCE]
 
 
 def ground_deed(ledger, deed):
@@ -85,12 +121,10 @@ def ground_deed(ledger, deed):
     return deed
 
 
-def covers(ledger, deed, right, land, variant):
+def covers(ledger, deed, right, land, place):
     ground = ground_deed(ledger, deed)
-    return ground.right == right.number and has_bit(ground.lands, land) and in_box(ground.box, variant)
+    return ground.right == right.number and ground.covered[place] and has_bit(ground.lands, land)
 
 
-def worked_deeds(ledger, right, land, variant, day, known):
-    """The counted deeds that cover the cell and have worked on the day, in their order."""
-    recorded = [deed for deed in counted_deeds(ledger, known) if deed.recorded <= day]
-    return [deed for deed in recorded if covers(ledger, deed, right, land, variant)]
+def covering_deeds(ledger, deeds, right, land, place):
+    return [deed for deed in deeds if covers(ledger, deed, right, land, place)]
