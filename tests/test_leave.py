@@ -243,6 +243,10 @@ class ChainTest(unittest.TestCase):
     def test_only_with_its_taker_as_their_giver(self):
         self.assertEqual(asked(6, sole(1, 1, 5), licence(2, 1, 6), licence(3, 4, 6)), [5])
 
+    def test_only_licences_of_its_taker(self):
+        for day in (0, 9):
+            self.assertEqual(asked(6, sole(1, 1, 5), transfer(2, 5, 6, 10), pledge(3, 5, 6, 10), day=day), [5])
+
     def test_not_what_binds_the_taker_otherwise(self):
         deeds = [sole(1, 1, 5), licence(2, 2, 6), transfer(3, 2, 5, 60)]
         self.assertEqual(asked(6, *deeds, of=HALVES), [5])

@@ -24,6 +24,9 @@ class PartsTest(unittest.TestCase):
         self.assertEqual(last(*before, parts(1)), [2, 210])
         self.assertEqual(last(*before, parts(2)), [2, 150])
 
+    def test_one_part(self):
+        self.assertEqual(last(right(owners=(1, 1, 2, 119)), transfer(1, 1, 2, 1, box=(2,)), parts(1)), [1, 1])
+
     def test_a_land_that_is_not_the_rights(self):
         before = [right(lands=5)]
         self.assertEqual([last(*before, parts(1, land=land)) for land in range(4)], [[2, 240], [0, 0]] * 2)
